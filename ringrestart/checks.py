@@ -1,7 +1,10 @@
 """The errors of invalid arguments. Every function calls these in the order of its arguments."""
 
-from ringrestart.errors import NoAssignment, NoDrops, NoNumber, NoRing, NoRound, NoServer
-from ringrestart.kinds import assignment_ok, drops_ok, is_integer, is_ring, is_server, numbers_ok, round_ok
+from ringrestart.errors import (
+    NoAssignment, NoDrops, NoNumber, NoObservation, NoOrder, NoRing, NoRound, NoServer, NoWeights)
+from ringrestart.kinds import (
+    assignment_ok, drops_ok, is_integer, is_ring, is_server, numbers_ok, observation_ok, order_ok, round_ok,
+    weights_ok)
 
 
 def need_ring(n):
@@ -34,6 +37,26 @@ def need_assignment(n, assignment):
         raise NoAssignment("an assignment is a list of n servers")
 
 
+def need_observation(n, seen):
+    if not observation_ok(n, seen):
+        raise NoObservation("an observation is a list of n entries, each a server or None")
+
+
+def need_weights(n, weights):
+    if not weights_ok(n, weights):
+        raise NoWeights("weights are a list of n integers from 0 to 10 ** 30")
+
+
+def need_order(n, order):
+    if not order_ok(n, order):
+        raise NoOrder("an order is a list of all servers, each once")
+
+
 def need_number(k, least, greatest):
     if not is_integer(k) or k < least or k > greatest:
+        raise NoNumber("the number is out of its range")
+
+
+def need_at_least(k, least):
+    if not is_integer(k) or k < least:
         raise NoNumber("the number is out of its range")

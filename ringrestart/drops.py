@@ -1,7 +1,7 @@
 """Drops of a round, the ends that they lead to, and why other ends are impossible."""
 
 from ringrestart.checks import need_assignment, need_drops, need_ring
-from ringrestart.circle import first_behind, gap
+from ringrestart.circle import drops_in, first_behind, gap
 from ringrestart.errors import Impossible
 from ringrestart.kinds import is_server
 from ringrestart.rings import times
@@ -9,9 +9,7 @@ from ringrestart.rings import times
 
 def drops_of(n, batches):
     """The servers that are restarted before the server in front of them."""
-    when = times(n, batches)
-    # when[-1] is the time of the last server, which stands in front of server 0.
-    return [j for j in range(n) if when[j] < when[j - 1]]
+    return drops_in(times(n, batches))
 
 
 def ends(n, drops):

@@ -1,7 +1,8 @@
-"""What an object is: an integer, a server, a batch, a round, drops or an assignment. n is a valid ring here."""
+"""What an object is: an integer, a server, a round, drops, weights and so on. n is a valid ring here."""
 
 FEWEST_SERVERS = 2
 MOST_SERVERS = 60
+MOST_WEIGHT = 10 ** 30
 
 
 def is_integer(thing):
@@ -49,3 +50,19 @@ def drops_ok(n, thing):
 
 def assignment_ok(n, thing):
     return are_servers(n, thing) and len(thing) == n
+
+
+def order_ok(n, thing):
+    return are_servers(n, thing) and len(thing) == n and len(set(thing)) == n
+
+
+def weights_ok(n, thing):
+    if not isinstance(thing, list) or len(thing) != n:
+        return False
+    return all([is_integer(each) and 0 <= each <= MOST_WEIGHT for each in thing])
+
+
+def observation_ok(n, thing):
+    if not isinstance(thing, list) or len(thing) != n:
+        return False
+    return all([each is None or is_server(n, each) for each in thing])

@@ -1,7 +1,7 @@
 """Rounds, drops and assignments of a ring, distances and times."""
 
 from ringrestart.checks import need_numbers, need_ring, need_round, need_server
-from ringrestart.circle import gap
+from ringrestart.circle import batches_of, gap
 from ringrestart.kinds import assignment_ok, drops_ok, round_ok
 
 
@@ -42,4 +42,4 @@ def round_of(n, numbers):
     """The round in which smaller numbers come first and equal numbers are together."""
     need_ring(n)
     need_numbers(n, numbers)
-    return [[j for j in range(n) if numbers[j] == number] for number in sorted(set(numbers))]
+    return batches_of(n, numbers)

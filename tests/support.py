@@ -8,7 +8,7 @@ import itertools
 import random
 import unittest
 
-from ringrestart import drops, errors, rings, running
+from ringrestart import batches, drops, errors, loads, orders, partial, rings, running
 
 BIG = 10 ** 90 - 1
 
@@ -28,6 +28,30 @@ FUNCTIONS = {
     drops.reason: ("n", "assignment"),
     drops.shows: ("n", "assignment", "thing"),
     drops.drops_from: ("n", "assignment"),
+    batches.fewest_batches: ("n", "drops"),
+    batches.longest_run: ("n", "drops"),
+    batches.round_in_batches: ("n", "drops"),
+    batches.fewest_apart: ("n", "drops"),
+    batches.round_apart: ("n", "drops"),
+    orders.order_count: ("n", "drops"),
+    orders.least_order: ("n", "drops"),
+    orders.nth_order: ("n", "drops", "number"),
+    orders.order_number: ("n", "order"),
+    orders.counts_by_drops: ("n",),
+    orders.chance: ("n", "i", "j"),
+    loads.loads_after: ("n", "batches", "weights", "k"),
+    loads.least_greatest: ("n", "weights", "most"),
+    loads.best_drops: ("n", "weights", "most"),
+    loads.fewest_for: ("n", "weights", "limit"),
+    partial.fits: ("n", "seen"),
+    partial.conflict: ("n", "seen"),
+    partial.shows_conflict: ("n", "seen", "thing"),
+    partial.demands: ("n", "seen"),
+    partial.fitting_drops: ("n", "seen"),
+    partial.drop_count: ("n", "seen"),
+    partial.orders_left: ("n", "seen"),
+    partial.certain: ("n", "seen"),
+    partial.chance_given: ("n", "seen", "i", "j"),
 }
 
 NO_RINGS = [1, 0, -1, -2, -60, 61, 62, 100, BIG, -BIG]
@@ -106,6 +130,19 @@ class RingCase(unittest.TestCase):
 
 # Plain searches
 
+def all_orders(n):
+    """All orders of a small ring, ascending."""
+    return [list(order) for order in itertools.permutations(range(n))]
+
+
+def orders_by_drops(n):
+    """All drops of a small ring, as tuples, each with all its orders, ascending."""
+    found = {}
+    for order in all_orders(n):
+        found.setdefault(tuple(plain_drops(n, [[j] for j in order])), []).append(order)
+    return found
+
+
 def all_rounds(n):
     """All rounds of a small ring."""
     found = []
@@ -161,6 +198,25 @@ def plain_ends(n, drops):
     return [[(i + step) % n for step in range(1, n + 1) if (i + step) % n in drops][0] for i in range(n)]
 
 
+def plain_loads(n, drops, weights):
+    """The loads at the end of a round with these drops."""
+    loads = [0] * n
+    for weight, end in zip(weights, plain_ends(n, drops)):
+        loads[end] += weight
+    return loads
+
+
+def plain_longest(n, drops):
+    """The number of drops in a longest sequence."""
+    lengths = [0]
+    for first in drops:
+        length = 1
+        while (first + length) % n in drops:
+            length += 1
+        lengths.append(length)
+    return max(lengths)
+
+
 def plain_passed(n, assignment):
     """All true certificates of the form passed, in ascending order."""
     return [("passed", i, k) for i in range(n) for k in range(n)
@@ -184,6 +240,15 @@ def some_rounds(n, many, seed):
         numbers = [source.randrange(batches) for _ in range(n)]
         if len(set(numbers)) >= 2:
             found.append([[j for j in range(n) if numbers[j] == k] for k in sorted(set(numbers))])
+    return found
+
+
+def some_drops(n, seed):
+    """Drops of a large ring, from one to all but one; the same ones for the same seed."""
+    source = random.Random(seed)
+    found = [[0], [n - 1], list(range(1, n)), list(range(n - 1)), list(range(0, n - 1, 2)), list(range(1, n, 2))]
+    for many in (1, 2, n // 4, n // 2, n - n // 4, n - 1):
+        found.append(sorted(source.sample(range(n), min(max(many, 1), n - 1))))
     return found
 
 

@@ -1,28 +1,39 @@
 import inspect
 import unittest
 
-from ringrestart import drops, errors, rings, running
+from ringrestart import batches, drops, errors, loads, orders, partial, rings, running
 from support import BIG, FUNCTIONS, RingCase
 
 FILES = {
     rings: ["is_round", "is_drops", "is_assignment", "distance", "times", "round_of"],
     running: ["places_after", "run", "moves"],
     drops: ["drops_of", "ends", "possible", "reason", "shows", "drops_from"],
+    batches: ["fewest_batches", "longest_run", "round_in_batches", "fewest_apart", "round_apart"],
+    orders: ["order_count", "least_order", "nth_order", "order_number", "counts_by_drops", "chance"],
+    loads: ["loads_after", "least_greatest", "best_drops", "fewest_for"],
+    partial: [
+        "fits", "conflict", "shows_conflict", "demands", "fitting_drops", "drop_count", "orders_left", "certain",
+        "chance_given"],
 }
 
 # Arguments with which each function succeeds, for n = 4.
 GOOD = {
     "n": 4, "thing": [[0, 1], [2, 3]], "i": 1, "j": 2, "batches": [[0, 2], [3], [1]], "numbers": [5, 4, 5, 3], "k": 2,
-    "drops": [0, 2], "assignment": [2, 2, 0, 0],
+    "drops": [0, 2], "assignment": [2, 2, 0, 0], "number": 3, "order": [2, 0, 3, 1], "weights": [3, 0, 10 ** 30, 1],
+    "most": 2, "limit": 2 * 10 ** 30, "seen": [None, 2, None, None],
 }
 WRONG = {
     "n": [1, 61, 0, -4, BIG], "i": [4, -1, BIG], "j": [4, -1, -BIG], "k": [4, -1, BIG],
     "batches": [None, [], [[0, 1, 2, 3]], [[0], [1]], [[0, 2], [3], [True]]], "numbers": [None, [1] * 4, [1, 2, 3]],
     "drops": [None, [], [0, 1, 2, 3], [2, 0], [4]], "assignment": [None, [], [0] * 3, [0, 1, 2, 4], [True] * 4],
+    "number": [-1, 4, BIG, -BIG], "order": [None, [], [0, 1, 2], [0, 1, 2, 2], [1, 2, 3, 4], [False, True, 2, 3]],
+    "weights": [None, [], [1] * 3, [1, 1, 1, -1], [10 ** 30 + 1, 1, 1, 1], [1, 1, 1, True]],
+    "most": [1, 0, -1, -BIG], "limit": [-1, -2, -BIG], "seen": [None, [], [None] * 3, [0, 1, 2, 4], [None] * 3 + [True]],
 }
 ERRORS = {
     "n": "NoRing", "i": "NoServer", "j": "NoServer", "k": "NoNumber", "batches": "NoRound", "numbers": "NoRound",
-    "drops": "NoDrops", "assignment": "NoAssignment",
+    "drops": "NoDrops", "assignment": "NoAssignment", "number": "NoNumber", "order": "NoOrder", "weights": "NoWeights",
+    "most": "NoNumber", "limit": "NoNumber", "seen": "NoObservation",
 }
 
 
@@ -67,11 +78,17 @@ class TestOrderOfChecks(RingCase):
 class TestNewLists(RingCase):
 
     def test_results_of_different_calls_do_not_share_lists(self):
-        batches = [[0, 2], [3], [1]]
+        some = [[0, 2], [3], [1]]
+        weights = [5, 0, 2, 1]
         calls = [
-            (rings.times, (4, batches)), (rings.round_of, (4, [1, 0, 1, 0])), (running.places_after, (4, batches, 0)),
-            (running.places_after, (4, batches, 3)), (running.run, (4, batches)), (running.moves, (4, batches, 0)),
-            (drops.drops_of, (4, batches)), (drops.ends, (4, [0, 2])), (drops.drops_from, (4, [2, 2, 0, 0])),
+            (rings.times, (4, some)), (rings.round_of, (4, [1, 0, 1, 0])), (running.places_after, (4, some, 0)),
+            (running.places_after, (4, some, 3)), (running.run, (4, some)), (running.moves, (4, some, 0)),
+            (drops.drops_of, (4, some)), (drops.ends, (4, [0, 2])), (drops.drops_from, (4, [2, 2, 0, 0])),
+            (batches.round_in_batches, (4, [0, 2])), (batches.round_apart, (4, [0, 2])),
+            (orders.least_order, (4, [0, 2])), (orders.nth_order, (4, [0, 2], 1)), (orders.counts_by_drops, (4,)),
+            (loads.loads_after, (4, some, weights, 0)), (loads.loads_after, (4, some, weights, 3)),
+            (loads.best_drops, (4, weights, 3)), (partial.fitting_drops, (4, [None, 2, None, None])),
+            (partial.certain, (4, [None, 2, None, None])),
         ]
         kept = [function(*arguments) for _ in range(2) for function, arguments in calls]
         texts = [repr(each) for each in kept]
@@ -87,16 +104,33 @@ class TestNewLists(RingCase):
     def test_results_may_be_passed_back(self):
         n = 5
         for numbers in ([1, 0, 3, 1, 2], [9, 9, 9, 9, -1], [0, 1, 2, 3, 4]):
-            batches = rings.round_of(n, numbers)
-            self.assertIs(True, rings.is_round(n, batches))
-            self.same(batches, rings.round_of(n, rings.times(n, batches)))
-            result = running.run(n, batches)
+            some = rings.round_of(n, numbers)
+            self.assertIs(True, rings.is_round(n, some))
+            self.same(some, rings.round_of(n, rings.times(n, some)))
+            result = running.run(n, some)
             self.assertIs(True, rings.is_assignment(n, result))
             self.assertIs(True, drops.possible(n, result))
-            self.assertIs(True, rings.is_drops(n, drops.drops_of(n, batches)))
-            self.same(drops.drops_of(n, batches), drops.drops_from(n, result))
+            self.assertIs(True, rings.is_drops(n, drops.drops_of(n, some)))
+            self.same(drops.drops_of(n, some), drops.drops_from(n, result))
             self.same(result, drops.ends(n, drops.drops_from(n, result)))
-            self.same(result, running.places_after(n, batches, len(batches)))
+            self.same(result, running.places_after(n, some, len(some)))
+
+    def test_later_results_may_be_passed_back(self):
+        n = 5
+        for some in (batches.round_in_batches(n, [0, 1, 3]), batches.round_apart(n, [0, 1, 3])):
+            self.assertIs(True, rings.is_round(n, some))
+            self.same([0, 1, 3], drops.drops_of(n, some))
+        order = orders.nth_order(n, [0, 1, 3], orders.order_count(n, [0, 1, 3]) - 1)
+        self.same([0, 1, 3], drops.drops_of(n, [[j] for j in order]))
+        self.same(7, orders.order_number(n, order))
+        weights = loads.loads_after(n, [[1], [0, 3], [4], [2]], [5, 1, 1, 2, 4], 2)
+        best = loads.best_drops(n, weights, loads.fewest_for(n, weights, 10))
+        self.assertIs(True, rings.is_drops(n, best))
+        seen = partial.certain(n, [None, 3, None, None, 0])
+        self.same(seen, partial.certain(n, seen))
+        self.assertIs(True, partial.fits(n, drops.ends(n, partial.fitting_drops(n, seen))))
+        self.assertIs(True, partial.shows_conflict(n, [2, None, None, 1, None],
+                                                   partial.conflict(n, [2, None, None, 1, None])))
 
 
 if __name__ == "__main__":

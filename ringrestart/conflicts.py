@@ -1,0 +1,45 @@
+"""Why no round has the ends that are seen. None stands for a group that is not seen; the rest is checked already."""
+
+from ringrestart.circle import ends_behind, gap
+from ringrestart.kinds import is_server
+
+
+def first_conflict(n, seen):
+    """The first certificate that no round has these ends; None if some round has them."""
+    ends = sorted({j for j in seen if j is not None})
+    if not ends:
+        return None
+    # A group is passed by nobody exactly if it ends at the first end behind it.
+    nearest = ends_behind(n, ends)
+    for i in range(n):
+        if seen[i] is not None and seen[i] != nearest[i]:
+            return ("passed", i, _first_to_pass(n, seen, i))
+    if len(ends) == n:
+        return ("all",)
+    return None
+
+
+def is_conflict(n, seen, thing):
+    """Whether thing, any object, is a true certificate, not necessarily the first one."""
+    if not isinstance(thing, tuple):
+        return False
+    if thing == ("all",):
+        return len({j for j in seen if j is not None}) == n
+    if len(thing) != 3 or thing[0] != "passed":
+        return False
+    _, i, k = thing
+    return is_server(n, i) and is_server(n, k) and _passes(n, seen, i, k)
+
+
+def _first_to_pass(n, seen, i):
+    k = 0
+    while not _passes(n, seen, i, k):
+        k += 1
+    return k
+
+
+def _passes(n, seen, i, k):
+    """Whether the end of group k lies strictly between i and the end of group i."""
+    if seen[i] is None or seen[k] is None:
+        return False
+    return gap(n, i, seen[k]) < gap(n, i, seen[i])
