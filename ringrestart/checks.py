@@ -3,7 +3,7 @@
 from ringrestart.errors import (
     NoAssignment, NoDrops, NoNumber, NoObservation, NoOrder, NoRing, NoRound, NoServer, NoWeights)
 from ringrestart.kinds import (
-    assignment_ok, drops_ok, is_integer, is_ring, is_server, numbers_ok, observation_ok, order_ok, round_ok,
+    assignment_ok, drops_ok, is_integer, is_ring, is_server, numbers_ok, observation_ok, order_ok, times_in,
     weights_ok)
 
 
@@ -18,8 +18,11 @@ def need_server(n, i):
 
 
 def need_round(n, batches):
-    if not round_ok(n, batches):
+    """The times of the servers, which show that it is a round."""
+    when = times_in(n, batches)
+    if when is None:
         raise NoRound("a round is a list of two or more ascending batches with every server in exactly one")
+    return when
 
 
 def need_numbers(n, numbers):

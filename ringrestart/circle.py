@@ -6,11 +6,6 @@ def gap(n, i, j):
     return (j - i - 1) % n + 1
 
 
-def first_behind(n, i, servers):
-    """The first of these servers that comes behind i; i itself comes last."""
-    return min(servers, key=lambda j: gap(n, i, j))
-
-
 def ends_behind(n, servers):
     """For every server the first of these servers behind it; they are ascending, and there is one at least."""
     places = []
@@ -35,8 +30,24 @@ def drops_in(when):
     return [j for j in range(len(when)) if when[j] < when[j - 1]]
 
 
-def clients_go(n, batch, place):
-    """The server at which the clients of a place are after a batch; a batch is never all servers."""
-    while place in batch:
-        place = (place + 1) % n
-    return place
+def places_at(n, when, k):
+    """The servers at which the groups are after k batches, from the times of a round.
+
+    A group that has left its server is at a drop directly behind it, or where the group of the server behind it is.
+    """
+    drop = 0
+    while when[drop] >= when[drop - 1]:
+        drop += 1
+    places = [0] * n
+    place = drop
+    behind = when[drop]
+    # Backwards around the ring, from the server in front of a drop; numbers below 0 are places from the end.
+    for j in range(drop - 1, drop - 1 - n, -1):
+        time = when[j]
+        if time >= k:
+            place = j % n
+        elif behind < time:
+            place = (j + 1) % n
+        places[j] = place
+        behind = time
+    return places

@@ -1,18 +1,24 @@
 """Why no round has the ends that are seen. None stands for a group that is not seen; the rest is checked already."""
 
-from ringrestart.circle import ends_behind, gap
+from ringrestart.circle import gap
 from ringrestart.kinds import is_server
 
 
 def first_conflict(n, seen):
     """The first certificate that no round has these ends; None if some round has them."""
-    ends = sorted({j for j in seen if j is not None})
-    if not ends:
+    found = set(seen)
+    found.discard(None)
+    if not found:
         return None
-    # A group is passed by nobody exactly if it ends at the first end behind it.
-    nearest = ends_behind(n, ends)
-    for i in range(n):
-        if seen[i] is not None and seen[i] != nearest[i]:
+    ends = sorted(found)
+    at = 0
+    nearest = ends[0]
+    for i, end in enumerate(seen):
+        if i == nearest:
+            at = (at + 1) % len(ends)
+            nearest = ends[at]
+        # A group is passed by nobody exactly if it ends at the nearest end behind it.
+        if end != nearest and end is not None:
             return ("passed", i, _first_to_pass(n, seen, i))
     if len(ends) == n:
         return ("all",)

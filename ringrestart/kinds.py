@@ -11,31 +11,31 @@ def is_integer(thing):
 
 
 def is_ring(thing):
-    return is_integer(thing) and FEWEST_SERVERS <= thing <= MOST_SERVERS
+    # Here and below is_integer is written out: the calls would take most of the time of short functions.
+    return isinstance(thing, int) and not isinstance(thing, bool) and FEWEST_SERVERS <= thing <= MOST_SERVERS
 
 
 def is_server(n, thing):
-    return is_integer(thing) and 0 <= thing < n
+    return isinstance(thing, int) and not isinstance(thing, bool) and 0 <= thing < n
 
 
-def are_servers(n, thing):
-    return isinstance(thing, list) and all([is_server(n, each) for each in thing])
-
-
-def is_ascending(numbers):
-    return all([low < high for low, high in zip(numbers, numbers[1:])])
-
-
-def is_batch(n, thing):
-    return are_servers(n, thing) and len(thing) > 0 and is_ascending(thing)
-
-
-def round_ok(n, thing):
-    if not isinstance(thing, list) or len(thing) < 2:
-        return False
-    if not all([is_batch(n, batch) for batch in thing]):
-        return False
-    return sorted([j for batch in thing for j in batch]) == list(range(n))
+def times_in(n, thing):
+    """The list of the times of all servers if thing is a round, else None."""
+    # Each batch has a server that no other one has. So the many batches that some objects have are not looked at.
+    if not isinstance(thing, list) or not 2 <= len(thing) <= n:
+        return None
+    # A time of n stands for a server that is in no batch so far.
+    when = [n] * n
+    for k, batch in enumerate(thing):
+        if not isinstance(batch, list) or len(batch) == 0:
+            return None
+        last = -1
+        for j in batch:
+            if not isinstance(j, int) or isinstance(j, bool) or j <= last or j >= n or when[j] < n:
+                return None
+            when[j] = k
+            last = j
+    return None if n in when else when
 
 
 def numbers_ok(n, thing):
@@ -45,24 +45,43 @@ def numbers_ok(n, thing):
 
 
 def drops_ok(n, thing):
-    return is_batch(n, thing) and len(thing) < n
+    if not isinstance(thing, list) or not 0 < len(thing) < n:
+        return False
+    last = -1
+    for j in thing:
+        if not isinstance(j, int) or isinstance(j, bool) or j <= last or j >= n:
+            return False
+        last = j
+    return True
 
 
 def assignment_ok(n, thing):
-    return are_servers(n, thing) and len(thing) == n
+    if not isinstance(thing, list) or len(thing) != n:
+        return False
+    for j in thing:
+        if not isinstance(j, int) or isinstance(j, bool) or j < 0 or j >= n:
+            return False
+    return True
 
 
 def order_ok(n, thing):
-    return are_servers(n, thing) and len(thing) == n and len(set(thing)) == n
+    # n servers, no two of them equal, are all servers.
+    return assignment_ok(n, thing) and len(set(thing)) == n
 
 
 def weights_ok(n, thing):
     if not isinstance(thing, list) or len(thing) != n:
         return False
-    return all([is_integer(each) and 0 <= each <= MOST_WEIGHT for each in thing])
+    for weight in thing:
+        if not isinstance(weight, int) or isinstance(weight, bool) or weight < 0 or weight > MOST_WEIGHT:
+            return False
+    return True
 
 
 def observation_ok(n, thing):
     if not isinstance(thing, list) or len(thing) != n:
         return False
-    return all([each is None or is_server(n, each) for each in thing])
+    for j in thing:
+        if j is not None and (not isinstance(j, int) or isinstance(j, bool) or j < 0 or j >= n):
+            return False
+    return True

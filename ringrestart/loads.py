@@ -1,17 +1,18 @@
 """Loads of the servers, and rounds that keep them low."""
 
 from ringrestart.checks import need_at_least, need_number, need_ring, need_round, need_weights
+from ringrestart.circle import places_at
 from ringrestart.cuts import LONGEST_ARC, cuts_for
-from ringrestart.running import places_after
 
 
 def loads_after(n, batches, weights, k):
     """The loads of all servers after k batches."""
     need_ring(n)
-    need_round(n, batches)
+    when = need_round(n, batches)
     need_weights(n, weights)
+    need_number(k, 0, len(batches))
     loads = [0] * n
-    for place, weight in zip(places_after(n, batches, k), weights):
+    for place, weight in zip(places_at(n, when, k), weights):
         loads[place] += weight
     return loads
 

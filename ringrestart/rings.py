@@ -2,12 +2,12 @@
 
 from ringrestart.checks import need_numbers, need_ring, need_round, need_server
 from ringrestart.circle import batches_of, gap
-from ringrestart.kinds import assignment_ok, drops_ok, round_ok
+from ringrestart.kinds import assignment_ok, drops_ok, times_in
 
 
 def is_round(n, thing):
     need_ring(n)
-    return round_ok(n, thing)
+    return times_in(n, thing) is not None
 
 
 def is_drops(n, thing):
@@ -30,12 +30,7 @@ def distance(n, i, j):
 def times(n, batches):
     """The list of the indexes of the batches of all servers."""
     need_ring(n)
-    need_round(n, batches)
-    when = [0] * n
-    for k, batch in enumerate(batches):
-        for j in batch:
-            when[j] = k
-    return when
+    return need_round(n, batches)
 
 
 def round_of(n, numbers):

@@ -189,6 +189,17 @@ def plain_places(n, batches, k):
     return [[j for j in range(n) if i in clients[j]][0] for i in range(n)]
 
 
+def plain_walk(n, batches, i):
+    """The servers at which group i is after 0, 1, 2, ... batches, up to all of them."""
+    walk = [i]
+    for batch in batches:
+        place = walk[-1]
+        while place in batch:
+            place = (place + 1) % n
+        walk.append(place)
+    return walk
+
+
 def plain_moves(n, batches, i):
     path = [plain_places(n, batches, k)[i] for k in range(len(batches) + 1)]
     return [path[0]] + [here for before, here in zip(path, path[1:]) if here != before]
@@ -241,6 +252,15 @@ def some_rounds(n, many, seed):
         if len(set(numbers)) >= 2:
             found.append([[j for j in range(n) if numbers[j] == k] for k in sorted(set(numbers))])
     return found
+
+
+def one_by_one(n):
+    """Rounds with one server in each batch: in the direction of the ring, against it, and mixed."""
+    ahead = [[j] for j in range(n)]
+    turned = ahead[n // 2:] + ahead[:n // 2]
+    mixed = [[j] for j in random.Random(n).sample(range(n), n)]
+    halves = ahead[::2] + ahead[1::2]
+    return [ahead, ahead[::-1], turned, turned[::-1], mixed, mixed[::-1], halves]
 
 
 def some_drops(n, seed):

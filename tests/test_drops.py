@@ -6,9 +6,9 @@ from ringrestart.drops import drops_from, drops_of, ends, possible, reason, show
 from ringrestart.errors import Impossible, NoAssignment, NoDrops, NoRing, NoRound
 from ringrestart.running import run
 from support import (
-    BIG, NO_LISTS, NO_RINGS, RingCase, all_assignments, all_drops, all_rounds, plain_drops, plain_ends, plain_passed,
-    plain_places, plain_reason, some_rounds)
-from test_rings import NO_ASSIGNMENTS_OF_3, NO_DROPS_OF_3, NO_ROUNDS_OF_3
+    BIG, NO_LISTS, NO_RINGS, RingCase, all_assignments, all_drops, all_rounds, one_by_one, plain_drops, plain_ends,
+    plain_passed, plain_places, plain_reason, plain_walk, some_rounds)
+from test_rings import MANY_BATCHES_OF_60, NO_ASSIGNMENTS_OF_3, NO_DROPS_OF_3, NO_ROUNDS_OF_3
 
 E = [[1], [0, 3], [4], [2]]
 
@@ -70,6 +70,8 @@ class TestDropsOf(RingCase):
             self.fails(NoRound, drops_of, 3, thing)
         for n in (2, 4, 6, 60):
             self.fails(NoRound, drops_of, n, E)
+        for thing in MANY_BATCHES_OF_60:
+            self.fails(NoRound, drops_of, 60, thing)
         for n in NO_RINGS:
             for thing in (None, [], E, [[0], [1]]):
                 self.fails(NoRing, drops_of, n, thing)
@@ -223,6 +225,27 @@ class TestPossible(RingCase):
             why = plain_reason(60, assignment)
             self.gives(why, reason, 60, assignment)
             self.gives(why is None, possible, 60, assignment)
+
+    def test_results_of_rounds(self):
+        for n in (2, 3, 31, 60):
+            for batches in one_by_one(n) + some_rounds(n, 6, n + 2):
+                assignment = [plain_walk(n, batches, i)[-1] for i in range(n)]
+                self.gives(None, reason, n, assignment)
+                self.gives(True, possible, n, assignment)
+                self.gives(plain_drops(n, batches), drops_from, n, assignment)
+
+    def test_results_with_one_group_at_another_end(self):
+        source = random.Random(6)
+        for n in (5, 31, 60):
+            for batches in one_by_one(n) + some_rounds(n, 4, n + 3):
+                assignment = plain_ends(n, plain_drops(n, batches))
+                for at in {0, n - 1, source.randrange(n), source.randrange(n)}:
+                    changed = assignment[:at] + [source.randrange(n)] + assignment[at + 1:]
+                    why = plain_reason(n, changed)
+                    self.gives(why, reason, n, changed)
+                    self.gives(why is None, possible, n, changed)
+                    if why is not None:
+                        self.same(why, self.fails(Impossible, drops_from, n, changed).reason)
 
     def test_wrong(self):
         for function in (possible, reason, drops_from):

@@ -7,7 +7,7 @@ from ringrestart.loads import best_drops, fewest_for, least_greatest, loads_afte
 from support import (
     BIG, NO_LISTS, NO_RINGS, RingCase, all_drops, all_rounds, plain_drops, plain_loads, plain_longest, plain_places,
     some_rounds, with_one_changed)
-from test_rings import NO_ROUNDS_OF_3
+from test_rings import MANY_BATCHES_OF_60, NO_ROUNDS_OF_3
 
 E = [[1], [0, 3], [4], [2]]
 W = [5, 1, 1, 2, 4]
@@ -280,6 +280,8 @@ class TestWrong(RingCase):
             self.fails(NoRound, loads_after, 3, thing, None, -1)
         for n in (2, 4, 6, 60):
             self.fails(NoRound, loads_after, n, E, [1] * n, 0)
+        for thing in MANY_BATCHES_OF_60:
+            self.fails(NoRound, loads_after, 60, thing, [1] * 60, 0)
 
     def test_no_ring(self):
         for n in NO_RINGS:

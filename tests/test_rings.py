@@ -5,8 +5,8 @@ import unittest
 from ringrestart.errors import NoRing, NoRound, NoServer
 from ringrestart.rings import distance, is_assignment, is_drops, is_round, round_of, times
 from support import (
-    BIG, NO_LISTS, NO_RINGS, NO_SERVERS_INSIDE, RingCase, all_assignments, all_drops, all_rounds, plain_times,
-    some_rounds, walked, with_one_changed)
+    BIG, NO_LISTS, NO_RINGS, NO_SERVERS_INSIDE, RingCase, all_assignments, all_drops, all_rounds, one_by_one,
+    plain_times, some_rounds, walked, with_one_changed)
 
 E = [[1], [0, 3], [4], [2]]
 
@@ -21,6 +21,18 @@ NO_ROUNDS_OF_3 = [
     [[0, 1], [2], None], [{"0": 0}, [1, 2]], [[0, 1, 2], {}], [{}, {}], [[0, 1, 2], ""], [True, False],
     [[0, 3], [1], [4], [2]], [[0], [1], [2], [[]]], [[[[[[0]]]]], [1, 2]], [[0] * 60, [1], [2]],
     [[0]] * 1000, [0] * 2900,
+]
+
+# Objects with about as many batches as a ring of 60 servers can have, or with many more; none is a round.
+MANY_BATCHES_OF_60 = [
+    [[0]] * 1400, [[0, 1]] * 900, [[]] * 2900, [[59]] * 60, [[0, 1]] * 30, [[j] for j in range(61)],
+    [[j] for j in range(59)], [[j] for j in range(1, 61)], [[j] for j in range(-1, 59)], [[j] for j in range(60)] * 2,
+    [[j] for j in range(60)] + [[]], [[]] + [[j] for j in range(60)], [[j] for j in range(59)] + [[]],
+    [[j] for j in range(59)] + [[58]], [[0], [0]] + [[j] for j in range(2, 60)], [[j] for j in range(59)] + [59],
+    [[j] for j in range(59)] + [(59,)], [[j] for j in range(59)] + [[59, 59]], [[j] for j in range(59)] + [[59, 60]],
+    [[j, j + 1] for j in range(59)], [[j + 1, j] for j in range(0, 60, 2)], [[False]] + [[j] for j in range(1, 60)],
+    [[j] for j in range(60) if j != 1] + [[True]], [[j] for j in range(59)] + [["59"]],
+    [[j] for j in range(59)] + [[None]], [[j] for j in range(59)] + [[[59]]], [list(range(60))] * 48, list(range(60)),
 ]
 
 NO_DROPS_OF_3 = [
@@ -71,6 +83,20 @@ class TestWhether(RingCase):
             self.gives(False, is_round, 3, thing)
         for thing in NO_LISTS:
             self.gives(False, is_round, 2, thing)
+
+    def test_many_batches(self):
+        for thing in MANY_BATCHES_OF_60:
+            self.gives(False, is_round, 60, thing)
+            self.fails(NoRound, times, 60, thing)
+        for n in (2, 3, 31, 59, 60):
+            for batches in one_by_one(n):
+                self.gives(True, is_round, n, batches)
+                self.gives(plain_times(n, batches), times, n, batches)
+                self.gives(False, is_round, n, batches + [[]])
+                self.gives(False, is_round, n, batches[1:] + [[]])
+                self.gives(False, is_round, n, batches[1:])
+                self.gives(False, is_round, n, batches[1:] + batches[1:2])
+                self.gives(False, is_round, n, batches + batches[:1])
 
     def test_rounds_with_one_wrong_server(self):
         for batches in ([[0], [1, 2]], [[1], [0, 2]], [[2], [0], [1]]):

@@ -3,13 +3,14 @@ import unittest
 from ringrestart.errors import NoNumber, NoRing, NoRound, NoServer
 from ringrestart.running import moves, places_after, run
 from support import (
-    BIG, NO_LISTS, NO_RINGS, RingCase, all_rounds, plain_drops, plain_ends, plain_moves, plain_places, some_rounds)
-from test_rings import NO_ROUNDS_OF_3
+    BIG, NO_LISTS, NO_RINGS, RingCase, all_rounds, one_by_one, plain_drops, plain_ends, plain_moves, plain_places,
+    plain_walk, some_rounds)
+from test_rings import MANY_BATCHES_OF_60, NO_ROUNDS_OF_3
 
 E = [[1], [0, 3], [4], [2]]
 
 
-def one_by_one(n):
+def ahead(n):
     return [[j] for j in range(n)]
 
 
@@ -64,10 +65,10 @@ class TestLargeRings(RingCase):
 
     def test_full_turn(self):
         for n in (2, 3, 5, 59, 60):
-            self.gives([0] * n, run, n, one_by_one(n))
-            self.gives(list(range(n)) + [0], moves, n, one_by_one(n), 0)
+            self.gives([0] * n, run, n, ahead(n))
+            self.gives(list(range(n)) + [0], moves, n, ahead(n), 0)
             for i in range(1, n):
-                self.gives(list(range(i, n)) + [0], moves, n, one_by_one(n), i)
+                self.gives(list(range(i, n)) + [0], moves, n, ahead(n), i)
 
     def test_full_turn_from_another_server(self):
         batches = [[2], [3], [0], [1]]
@@ -111,7 +112,37 @@ class TestLargeRings(RingCase):
 
     def test_no_batch_yet(self):
         for n in (2, 3, 60):
-            self.gives(list(range(n)), places_after, n, one_by_one(n), 0)
+            self.gives(list(range(n)), places_after, n, ahead(n), 0)
+
+
+class TestGroupByGroup(RingCase):
+
+    def check(self, n, batches):
+        walks = [plain_walk(n, batches, i) for i in range(n)]
+        for k in range(len(batches) + 1):
+            self.same([walk[k] for walk in walks], places_after(n, batches, k))
+        self.gives([walk[-1] for walk in walks], run, n, batches)
+        for i, walk in enumerate(walks):
+            path = [i] + [here for before, here in zip(walk, walk[1:]) if here != before]
+            self.same(path, moves(n, batches, i))
+
+    def test_one_server_in_each_batch(self):
+        for n in (2, 3, 4, 31, 59, 60):
+            for batches in one_by_one(n):
+                self.check(n, batches)
+
+    def test_some_batches(self):
+        for n in (5, 6, 7, 30, 60):
+            for batches in some_rounds(n, 12, n + 6):
+                self.check(n, batches)
+
+    def test_two_batches(self):
+        for n in (2, 5, 60):
+            for many in {1, n // 2, n - 1}:
+                low, high = list(range(many)), list(range(many, n))
+                self.check(n, [low, high])
+                self.check(n, [high, low])
+            self.check(n, [list(range(0, n, 2)), list(range(1, n, 2))])
 
 
 class TestWrong(RingCase):
@@ -126,22 +157,30 @@ class TestWrong(RingCase):
             self.fails(NoRound, places_after, n, E, 1)
             self.fails(NoRound, moves, n, E, 1)
 
+    def test_many_batches(self):
+        for thing in MANY_BATCHES_OF_60:
+            self.fails(NoRound, run, 60, thing)
+            self.fails(NoRound, places_after, 60, thing, 0)
+            self.fails(NoRound, places_after, 60, thing, len(thing) + 1)
+            self.fails(NoRound, moves, 60, thing, 59)
+            self.fails(NoRound, moves, 60, thing, 60)
+
     def test_no_number(self):
         for k in (-1, -2, -4, 5, 6, BIG, -BIG):
             self.fails(NoNumber, places_after, 5, E, k)
-        self.fails(NoNumber, places_after, 60, one_by_one(60), 61)
+        self.fails(NoNumber, places_after, 60, ahead(60), 61)
         self.fails(NoNumber, places_after, 60, [[0], list(range(1, 60))], 3)
         self.fails(NoNumber, places_after, 2, [[0], [1]], -1)
 
     def test_no_server(self):
         for i in (-1, -5, 5, 6, BIG, -BIG):
             self.fails(NoServer, moves, 5, E, i)
-        self.fails(NoServer, moves, 60, one_by_one(60), 60)
+        self.fails(NoServer, moves, 60, ahead(60), 60)
         self.fails(NoServer, moves, 2, [[0], [1]], 2)
 
     def test_no_ring(self):
         for n in NO_RINGS:
-            for thing in (None, [], E, [[0], [1]], one_by_one(61)):
+            for thing in (None, [], E, [[0], [1]], ahead(61)):
                 self.fails(NoRing, run, n, thing)
                 for other in (0, -1, BIG):
                     self.fails(NoRing, places_after, n, thing, other)
