@@ -6,6 +6,8 @@ from ringrestart.kinds import (
     assignment_ok, drops_ok, is_integer, is_ring, is_server, numbers_ok, observation_ok, order_ok, times_in,
     weights_ok)
 
+MOST_ROUNDS = 20
+
 
 def need_ring(n):
     if not is_ring(n):
@@ -23,6 +25,13 @@ def need_round(n, batches):
     if when is None:
         raise NoRound("a round is a list of two or more ascending batches with every server in exactly one")
     return when
+
+
+def need_rounds(n, rounds):
+    """The times of the servers in each of the rounds."""
+    if not isinstance(rounds, list) or len(rounds) > MOST_ROUNDS:
+        raise NoRound("several rounds are a list of at most 20 rounds")
+    return [need_round(n, batches) for batches in rounds]
 
 
 def need_numbers(n, numbers):

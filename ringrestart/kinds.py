@@ -55,6 +55,13 @@ def drops_ok(n, thing):
     return True
 
 
+def groups_ok(n, thing):
+    """Whether it is an ascending list of groups; a group is named like its server."""
+    if not isinstance(thing, list):
+        return False
+    return all([is_server(n, i) for i in thing]) and sorted(set(thing)) == thing
+
+
 def assignment_ok(n, thing):
     if not isinstance(thing, list) or len(thing) != n:
         return False

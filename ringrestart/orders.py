@@ -1,13 +1,12 @@
 """Orders: how many have the same drops, their numbers, and the chances of the ends."""
 
 from heapq import heappop, heappush
-from math import factorial
 
 from ringrestart.arcs import ring_count
 from ringrestart.checks import need_drops, need_number, need_order, need_ring, need_server
 from ringrestart.choices import Choices
 from ringrestart.circle import drops_in, gap
-from ringrestart.shares import share
+from ringrestart.shares import stop_share
 
 
 def order_count(n, drops):
@@ -88,9 +87,5 @@ def chance(n, i, j):
     need_ring(n)
     need_server(n, i)
     need_server(n, j)
-    steps = gap(n, i, j)
-    # Group i makes k steps or more if the k servers from i on are restarted in the direction of the ring: in one of
-    # k! orders. After n steps it cannot go on.
-    if steps == n:
-        return (1, factorial(n))
-    return share(steps, factorial(steps + 1))
+    # At the beginning of a round all servers are still to come; after a full turn the group cannot go on.
+    return stop_share(gap(n, i, j), n)

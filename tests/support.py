@@ -8,7 +8,7 @@ import itertools
 import random
 import unittest
 
-from ringrestart import batches, drops, errors, loads, orders, partial, rings, running
+from ringrestart import batches, drops, errors, loads, orders, partial, rings, rounds, running, session, texts
 
 BIG = 10 ** 90 - 1
 
@@ -52,6 +52,20 @@ FUNCTIONS = {
     partial.orders_left: ("n", "seen"),
     partial.certain: ("n", "seen"),
     partial.chance_given: ("n", "seen", "i", "j"),
+    rounds.after: ("n", "rounds"),
+    rounds.repeated: ("n", "drops", "r"),
+    rounds.all_rounds: ("n", "assignment"),
+    rounds.possible_after: ("n", "assignment", "r"),
+    rounds.reason_after: ("n", "assignment"),
+    rounds.shows_after: ("n", "assignment", "thing"),
+    rounds.plan: ("n", "assignment", "r", "s"),
+    texts.write_round: ("batches",),
+    texts.read_round: ("text",),
+    texts.write_servers: ("servers",),
+    texts.read_servers: ("text",),
+    texts.write_seen: ("seen",),
+    texts.read_seen: ("text",),
+    session.session: ("rows",),
 }
 
 NO_RINGS = [1, 0, -1, -2, -60, 61, 62, 100, BIG, -BIG]
@@ -240,6 +254,27 @@ def plain_reason(n, assignment):
     if sorted(assignment) == list(range(n)):
         return ("all",)
     return None
+
+
+def plain_after(n, rounds):
+    """The groups as clients, moved by one round after the other."""
+    places = list(range(n))
+    for batches in rounds:
+        ends = plain_places(n, batches, len(batches))
+        places = [ends[j] for j in places]
+    return places
+
+
+def plain_ways(servers):
+    """All ways to restart these servers, in batches of any size."""
+    if not servers:
+        return [[]]
+    found = []
+    for many in range(1, len(servers) + 1):
+        for batch in itertools.combinations(servers, many):
+            rest = [j for j in servers if j not in batch]
+            found.extend([list(batch)] + way for way in plain_ways(rest))
+    return found
 
 
 def some_rounds(n, many, seed):
