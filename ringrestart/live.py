@@ -38,7 +38,8 @@ class Ring:
 
     def peak(self):
         """The greatest load that any server has had."""
-        return self._moments[-1].highest
+        # Clients that are at one server stay together. So the greatest load has never become less.
+        return max(self._moments[-1].borne)
 
     def round_number(self):
         """The number of complete rounds."""

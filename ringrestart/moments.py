@@ -7,22 +7,20 @@ from ringrestart.kinds import drops_ok
 def first_moment(weights):
     """The beginning: all groups are at their own servers."""
     n = len(weights)
-    return Moment(list(range(n)), list(weights), [False] * n, 0, max(weights))
+    return Moment(list(range(n)), list(weights), [False] * n, 0)
 
 
 class Moment:
     """What is so between two batches. It never changes, so that rings may share it."""
 
-    def __init__(self, where, borne, came, complete, highest):
+    def __init__(self, where, borne, came, complete):
         self.n = len(where)
         # The server at which each group is, and the load of each server.
         self.where = where
         self.borne = borne
-        # Whether each server was restarted in this round.
+        # Whether each server was restarted in this round, and the number of complete rounds.
         self.came = came
-        # The number of complete rounds, and the greatest load so far.
         self.complete = complete
-        self.highest = highest
 
     def allows(self, servers):
         """Whether servers, any object, can be restarted together now."""
@@ -40,10 +38,9 @@ class Moment:
             borne[ends[j]] += borne[j]
             borne[j] = 0
             came[j] = True
-        highest = max(self.highest, max(borne))
         if False in came:
-            return Moment(where, borne, came, self.complete, highest)
-        return Moment(where, borne, [False] * self.n, self.complete + 1, highest)
+            return Moment(where, borne, came, self.complete)
+        return Moment(where, borne, [False] * self.n, self.complete + 1)
 
     def reach(self, i):
         """How many servers group i can still go at most in this round."""

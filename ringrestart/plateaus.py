@@ -34,14 +34,15 @@ class Plateaus:
 
     def intervals(self):
         """All numbers of rounds, as (least, greatest); the last interval has None in the place of an end."""
-        # With every turn the intervals become longer. So the first turns are those with which there is an interval
-        # at all, and which reaches to 1; and where two intervals touch, all later ones do.
-        turns = max(-((self.high - self.low) // (self.n - self.many)), -((self.high - 1) // self.n))
+        # Every turn makes the interval longer by n - many, so that there is one from some number of turns on. None
+        # reaches below 1: if R5 held for r < 1, every plateau would have one server only.
+        turns = -((self.high - self.low) // (self.n - self.many))
         found = []
+        # Where two intervals touch, all later ones do.
         while self._greatest(turns) + 1 < self._least(turns + 1):
-            found.append((max(1, self._least(turns)), self._greatest(turns)))
+            found.append((self._least(turns), self._greatest(turns)))
             turns += 1
-        found.append((max(1, self._least(turns)), None))
+        found.append((self._least(turns), None))
         return found
 
     def allow(self, r):
@@ -51,24 +52,29 @@ class Plateaus:
     def drops_in_round(self, r, s):
         """The drops of round s of some r rounds with these ends, if there are such rounds.
 
-        Plateau k goes to the place directly behind it in the first round, then to where plateau k + 1 was before,
-        and so on, as long as it must not go one place at a time to be at its value after the last round. So it always
-        goes on, and never farther than to where the next plateau was: the drops are the places where they are.
+        After round s plateau k is directly behind the last place of plateau k + s - 1, or where it is r - s places to
+        its value, if that comes first. So it goes on in every round, and at most to where plateau k + 1 was before:
+        the drops of a round are the places of the plateaus after it.
         """
         to_go = r - s - self._turns_for(r) * self.n
-        return sorted([min(self._last(k + s - 1) + 1, value - to_go) % self.n for k, value in enumerate(self.ends)])
+        return sorted([min(last + 1, value - to_go) % self.n
+                       for last, value in zip(self._lasts_from(s - 1), self.ends)])
 
-    def _last(self, k):
-        """The last place of plateau k, for all integers k."""
-        return self.lasts[k % self.many] + k // self.many * self.n
+    def _lasts_from(self, k):
+        """The last places of one turn of plateaus, from plateau k on; k may be any integer."""
+        turns, first = divmod(k, self.many)
+        here = turns * self.n
+        return [here + last for last in self.lasts[first:]] + [here + self.n + last for last in self.lasts[:first]]
 
     def _lowest(self):
         """The least r with value <= last place of plateau k + r - 1, plus 1, for all k."""
-        lowest = 1 - self.many
+        # From plateau -many on, which ends at -1 or before, to one that ends behind all values.
+        line = [turn * self.n + last for turn in range(-1, 3) for last in self.lasts]
+        skipped = 0
         for k, value in enumerate(self.ends):
-            while self._last(k + lowest - 1) + 1 < value:
-                lowest += 1
-        return lowest
+            while line[k + skipped] + 1 < value:
+                skipped += 1
+        return skipped + 1 - self.many
 
     def _least(self, turns):
         """The least number of rounds after these turns: each turn leads over all plateaus."""
